@@ -14,44 +14,36 @@ import (
 
 // program is any program of so many instructions. Its registers often tell words and granules that there are.
 func program(r *rand.Rand, many, granules int, straight bool) []isa.Instr {
-	p := make([]isa.Instr, many)
+	var p []isa.Instr
 	reg := func() int { return r.Intn(isa.Regs) }
-	for i := range p {
+	for len(p) < many {
 		target := r.Intn(many + 1)
 		if straight {
-			target = i + 1 + r.Intn(many-i)
+			target = len(p) + 1 + r.Intn(many-len(p))
 		}
+		a, b := reg(), reg()
 		switch k := r.Intn(20); {
-		case k < 6:
-			p[i] = isa.Instr{Op: isa.Set, A: reg(), B: number(r, granules)}
-		case k < 7:
-			p[i] = isa.Instr{Op: isa.Add, A: reg(), B: reg(), C: reg()}
+		case k < 8:
+			p = append(p, isa.Instr{Op: isa.Set, A: b, B: r.Intn(4 * granules)}, isa.Instr{Op: isa.Load + r.Intn(3), A: a, B: b})
+		case k < 12:
+			p = append(p, isa.Instr{Op: isa.Set, A: a, B: r.Intn(4)}, isa.Instr{Op: isa.Set, A: b, B: r.Intn(granules)}, isa.Instr{Op: isa.Call, A: 1 + r.Intn(4), B: b, C: a})
+		case k < 13:
+			p = append(p, isa.Instr{Op: isa.Set, A: a, B: r.Intn(4*granules+3) - 1})
 		case k < 14:
-			p[i] = isa.Instr{Op: isa.Load + r.Intn(3), A: reg(), B: reg()}
+			p = append(p, isa.Instr{Op: isa.Load + r.Intn(3), A: a, B: b})
 		case k < 15:
-			p[i] = isa.Instr{Op: isa.World, A: 1 + r.Intn(3)}
-		case k < 18:
-			p[i] = isa.Instr{Op: isa.Call, A: 1 + r.Intn(4), B: reg(), C: reg()}
+			p = append(p, isa.Instr{Op: isa.Call, A: 1 + r.Intn(4), B: a, C: b})
+		case k < 16:
+			p = append(p, isa.Instr{Op: isa.Add, A: a, B: b, C: reg()})
+		case k < 17:
+			p = append(p, isa.Instr{Op: isa.World, A: 1 + r.Intn(3)})
 		case k < 19:
-			p[i] = isa.Instr{Op: isa.Zero, A: reg(), B: target}
+			p = append(p, isa.Instr{Op: isa.Zero, A: a, B: target})
 		default:
-			p[i] = []isa.Instr{{Op: isa.Fence}, {Op: isa.Jump, A: target}, {Op: isa.Halt}}[r.Intn(3)]
+			p = append(p, []isa.Instr{{Op: isa.Fence}, {Op: isa.Jump, A: target}, {Op: isa.Halt}}[r.Intn(3)])
 		}
 	}
-	return p
-}
-
-// number is a world, a granule or a word, now and then none.
-func number(r *rand.Rand, granules int) int {
-	switch r.Intn(8) {
-	case 0:
-		return r.Intn(4*granules+3) - 1
-	case 1, 2, 3:
-		return r.Intn(4 * granules)
-	case 4:
-		return r.Intn(granules + 1)
-	}
-	return r.Intn(4)
+	return p[:many]
 }
 
 // sample is any configuration.
