@@ -80,6 +80,13 @@ func TestP13_1New(t *testing.T) {
 	if c, e := cache.New(wrong, -1); c != nil || e != api.ErrRange {
 		t.Error(e)
 	}
+	deep, bare := config(2, 1, 1), config(2, 1, 1)
+	deep.Depth, bare.Banks = 17, 0
+	for _, wrong := range []place.Config{{}, deep, bare} {
+		if c, e := cache.New(wrong, 0); c != nil || e != api.ErrRange {
+			t.Error(wrong, e)
+		}
+	}
 	for _, core := range []int{-1, 2, math.MinInt, math.MaxInt} {
 		if c, e := cache.New(config(2, 1, 1), core); c != nil || e != api.ErrRange {
 			t.Error(core, e)
@@ -170,6 +177,17 @@ func TestP13_1ReadAndWriteErrors(t *testing.T) {
 	if x, _ := c.Peek(4); x.Data != data(4) {
 		t.Error(x)
 	}
+}
+
+func TestP13_1AnErrorIsNoUse(t *testing.T) {
+	c := made(t, 1, 2)
+	lay(t, c, 3, api.Owned)
+	lay(t, c, 4, api.Sharing)
+	c.Write(3, 0, 2, 9)
+	c.Read(3, 0, 1)
+	c.Read(3, 2, 2)
+	c.May(3, 2, false)
+	victim(t, c, 0, 3)
 }
 
 func TestP13_2WantErrors(t *testing.T) {
@@ -399,6 +417,21 @@ func TestP13_3ProbeOfWhatGoesBack(t *testing.T) {
 	if c.Len() != 0 {
 		t.Error("a probe lays nothing there")
 	}
+}
+
+func TestP13_3ProbeOfNoneWhileAnotherGoesBack(t *testing.T) {
+	c := made(t, 1, 1)
+	fetch(t, c, 2, api.Modified)
+	want(t, c, 1, false)
+	for line := range 6 {
+		if line == 2 {
+			continue
+		}
+		for _, to := range []int{api.Invalid, api.Sharing} {
+			same(t, take(t, c, api.Note{Kind: api.Probe, Line: line, State: to}), api.Note{Kind: api.Reply, Core: 1, Line: line})
+		}
+	}
+	same(t, take(t, c, api.Note{Kind: api.Probe, Line: 2, State: api.Sharing}), api.Note{Kind: api.Reply, Core: 1, Line: 2, State: api.Owned, Data: data(2), Dirty: true})
 }
 
 func TestP13_3ProbeErrors(t *testing.T) {

@@ -2,6 +2,7 @@ package machine_test
 
 import (
 	"math"
+	"reflect"
 	"slices"
 	"testing"
 
@@ -62,9 +63,9 @@ func do(t *testing.T, m *machine.Machine, l ...machine.Do) {
 // fails holds that something cannot be done, and that all is as it was.
 func fails(t *testing.T, m *machine.Machine, d machine.Do, want api.Errno) {
 	t.Helper()
-	before, logged := m.Shot(), m.Len()
+	before, ready, logged := m.Shot(), m.Ready(), m.Len()
 	n, e := m.Do(d)
-	if n != 0 || e != want || !slices.Equal(notes(m), before.Notes) || m.Len() != logged || !slices.Equal(m.Shot().Table, before.Table) {
+	if n != 0 || e != want || m.Len() != logged || !slices.Equal(m.Ready(), ready) || !reflect.DeepEqual(m.Shot(), before) {
 		t.Errorf("%+v: %d %v, not %v", d, n, e, want)
 	}
 }
@@ -352,6 +353,39 @@ func TestP16_3AReplyWithoutRoomForItsGrant(t *testing.T) {
 	}
 }
 
+func TestP16_3ADropWithoutRoomForItsDropped(t *testing.T) {
+	c := config(t, []int{0, 1}, []int{1}, "call 2 0 0\n", "load 1 0\nload 2 0\n")
+	c.Depth = 1
+	m := made(t, c)
+	do(t, m, step(1))
+	flows(t, m)
+	do(t, m, step(1), deliver(1, note.Asks), begin(0), deliver(1, note.Answers), step(0)) // the Done waits
+	fails(t, m, deliver(1, note.Orders), api.ErrFull)
+	do(t, m, step(1))
+	last(t, m, atom.Event{Core: 1, Op: isa.Load, World: 1, Value: 100})
+	do(t, m, deliver(1, note.Tells), deliver(1, note.Orders))
+	if k := m.Shot().Known; len(k) != 0 {
+		t.Error(k)
+	}
+}
+
+func TestP16_3AWordWithoutRoomForTheNextWalk(t *testing.T) {
+	c := config(t, []int{0, 1}, []int{1, 0}, "call 2 0 0\n", "load 1 0\n")
+	c.Depth = 1
+	m := made(t, c)
+	do(t, m, step(1))
+	flows(t, m)
+	do(t, m, step(1)) // a GetS waits
+	do(t, m, step(0), deliver(1, note.Orders))
+	fails(t, m, step(1), api.ErrFull)
+	do(t, m, deliver(1, note.Asks), step(1), deliver(1, note.Asks))
+	do(t, m, deliver(1, note.Answers)) // the group is not plain
+	got := slices.DeleteFunc(notes(m), func(n api.Note) bool { return n.Kind != api.Walk })
+	if !slices.Equal(got, []api.Note{{Kind: api.Walk, Core: 1, No: 1}}) {
+		t.Error(got)
+	}
+}
+
 func TestP16_3DeliverErrors(t *testing.T) {
 	m := simple(t, []int{1, 1}, []int{1}, "load 0 0\n", "")
 	fails(t, m, deliver(0, note.Asks), api.ErrNone)
@@ -522,6 +556,20 @@ func TestP16_5OverAndRanges(t *testing.T) {
 	}
 	do(t, m, deliver(0, note.Tells))
 	if !m.Over() || len(m.Ready()) != 0 {
+		t.Error("all is over")
+	}
+}
+
+func TestP16_5NotOverWhileSomethingIsToBeBegun(t *testing.T) {
+	m := simple(t, []int{1}, []int{1}, "store 0 0\nset 0 2\nload 1 0\n")
+	until(t, m, 0)
+	do(t, m, step(0), step(0)) // a Put, and a GetS
+	do(t, m, deliver(0, note.Asks), deliver(0, note.Asks), begin(1), deliver(0, note.Answers), deliver(0, note.Tells), step(0))
+	if c, _ := m.Core(0); !c.Over || len(notes(m)) != 0 || m.Over() || !slices.Equal(m.Ready(), []machine.Do{begin(0)}) {
+		t.Error("the Put is to be begun")
+	}
+	flows(t, m)
+	if !m.Over() {
 		t.Error("all is over")
 	}
 }

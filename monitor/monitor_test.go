@@ -178,6 +178,19 @@ func TestP14_2Dropped(t *testing.T) {
 	}
 }
 
+func TestP14_2DroppedOfFourCores(t *testing.T) {
+	m := made(t, 4, 0)
+	run(t, m, call(3, 0))
+	for _, core := range []int{-1, 4, 5} {
+		if is, e := m.Dropped(0, core); is || e != api.ErrNone {
+			t.Error(core, is, e)
+		}
+	}
+	if !drop(t, m, 0, 3, 1, 0, 2) {
+		t.Error("all dropped it")
+	}
+}
+
 func TestP14_2Swept(t *testing.T) {
 	m := made(t, 2, 0, 3)
 	for _, g := range []int{-1, 2, math.MinInt, math.MaxInt} {

@@ -214,6 +214,14 @@ func TestP3_1FieldsThatAKindDoesNotHave(t *testing.T) {
 	}
 }
 
+func TestP3_1FieldsThatMayNotBeThoughZero(t *testing.T) {
+	for _, n := range []api.Note{{Kind: api.Grant}, {Kind: api.Grant, Core: 1, Line: 2, World: 3}} {
+		if e := note.Check(small, n); e != api.ErrRange {
+			t.Error(n, e)
+		}
+	}
+}
+
 func TestP3_2Examples(t *testing.T) {
 	c := place.Config{Cores: 2, Granules: 2, Sets: 1, Ways: 1, Depth: 1, Entries: 1, Banks: 1}
 	for want, n := range map[string]api.Note{

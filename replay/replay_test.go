@@ -212,6 +212,23 @@ func TestP18_2HoldsLooksAtTheCores(t *testing.T) {
 	}
 }
 
+func TestP18_2HoldsLooksAtTheLog(t *testing.T) {
+	c := config(t, "", "store 0 1\njump 0\n")
+	m, _ := machine.New(c)
+	for m.Len() < 2 {
+		for _, d := range m.Ready() {
+			if m.Len() < 2 {
+				m.Do(d)
+			}
+		}
+	}
+	other := c
+	other.Owners = []int{2, 0} // a fault: the core is the same then
+	if !replay.Holds(c, m) || replay.Holds(other, m) {
+		t.Error("the core is where it was, but the log does not fit")
+	}
+}
+
 func TestP18_2Word(t *testing.T) {
 	s := machine.Shot{
 		Memory: []api.Line{{1, 2}, {3, 4}},

@@ -127,6 +127,7 @@ func TestP20_1ParseOfWhatIsNotWrittenSo(t *testing.T) {
 		swap("halt\n", "halt 0\n"), swap("halt\n", "halt\n\n"), swap("halt\n", "stop\n"), swap("halt\n", "set 4 0\n"), swap("halt\n", "jump 2\n"), swap("halt\n", strings.Repeat("halt\n", 33)), swap("halt\n", "core 1\nhalt\n"),
 		swap("step 0", "step"), swap("step 0", "step 0 0"), swap("step 0", "step 00"), swap("step 0", "Step 0"), swap("step 0", "deliver 0"), swap("step 0", "deliver 0 0"), swap("step 0", "deliver 0 0 0 0"), swap("step 0", "begin"), swap("step 0", "begin 0 0"), swap("step 0", "finish 0 0"), swap("step 0", ""),
 		swap("step 0\n", "step 0\ncore 1\nend\n"), swap("step 0\n", "step 0\nwords 1\n"),
+		swap("core 1\nhalt\nend\n", "core\n"), swap("core 1\nhalt\nend\n", "core 1 1\n"), swap("core 1\nhalt\nend\nstep 0\n", "core\nend\n"),
 		head + strings.Repeat("step 0\n", 5000) + "step\n",
 		"config 9 1 1 1 1 1 1\nowners 1\nwords\nbad\n",
 	} {
