@@ -1,4 +1,3 @@
-// Package whole tests the layers together: machines of any programs, picked through in any order.
 package whole
 
 import (
